@@ -1,0 +1,1 @@
+"""Leapfit: even counters, from rules to records and back."""
