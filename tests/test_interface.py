@@ -10,6 +10,20 @@ FUNCTIONS = {
         "shift_rule": "rule time amount", "mirror_rule": "rule", "thin_rule": "rule k", "sample_rule": "rule k",
     },
     "floor_sums": {"floor_sum": "number slope offset divisor"},
+    "events": {
+        "event_time": "rule event", "event_rule": "rule", "events_in": "rule start stop", "next_event": "rule time",
+        "previous_event": "rule time", "event_time_sum": "rule first last", "busy_times": "rule start stop",
+        "gap_range": "rule events", "residue_times": "rule k r start stop", "next_residue": "rule k r time",
+    },
+    "windows": {
+        "window_range": "rule width", "full_windows": "rule width start stop", "next_full": "rule width start",
+    },
+    "patterns": {
+        "pattern_total": "rule width", "pattern_rank": "rule width start",
+        "pattern_count": "rule width rank start stop", "next_pattern": "rule width rank start",
+        "pattern_distances": "rule width rank",
+    },
+    "evenness": {"uneven": "counts", "is_uneven_certificate": "counts value", "cycle_rule": "pattern"},
 }
 
 
