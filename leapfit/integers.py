@@ -1,4 +1,4 @@
-"""What the other files need of integers: checks of arguments, the greatest common divisor, steps round a circle."""
+"""What the other files need of integers: checks of arguments, divisions, integers between two lines."""
 
 from leapfit.errors import InvalidNumber
 
@@ -50,31 +50,67 @@ def first_hit(step, place, modulus, arc):
     The arc is a tuple (low, high) with 0 <= low <= high < modulus; both ends belong to it.
     """
     low, high = arc
-    if low <= place % modulus <= high:
-        return 0
-    # Seen from the place, the arc does not contain 0, so it does not wrap round.
-    near = (low - place) % modulus
-    return first_multiple(step % modulus, modulus, near, near + high - low)
+    return first_between((step, place - high, modulus), (step, place - low, modulus))
 
 
-def first_multiple(step, modulus, low, high):
-    """The same from the place 0, for an arc from low to high that does not contain it.
+def first_between(low, high):
+    """The least x >= 0 for which an integer lies between two lines, or None.
 
-    If no n of the first turn round the circle will do, the number of turns is the answer to the same question
-    on a circle of the length of a step.
+    A line is a tuple (slope, offset, divisor) with the value (slope * x + offset) / divisor at x. The integer may lie
+    on the lines. Where the line low is above the line high, nothing lies between them.
+    """
+    gap = low[1] * high[2] - high[1] * low[2]
+    gain = high[0] * low[2] - low[0] * high[2]
+    if gap <= 0:
+        return first_inside(low, high)
+    if gain <= 0:
+        return None
+    # Nothing lies between the lines before they cross.
+    start = divide_up(gap, gain)
+    return start + first_inside(line_from(low, start), line_from(high, start))
+
+
+def line_from(line, start):
+    """The same line, with x counted from the start."""
+    slope, offset, divisor = line
+    return (slope, slope * start + offset, divisor)
+
+
+def first_inside(low, high):
+    """The same, if it is not so that low is above high at 0 and below it later.
+
+    If no integer lies between the lines at 0, they start between two integers, called 0 and 1 here, or low stays above
+    high and nothing is found. If an integer slope lies between their slopes, they part at this slope, or they come
+    together and nothing is found. Otherwise both rise after a whole number is subtracted from their slopes, and 1 is
+    what they meet first. Then the lines are read the other way round, as x for each y: the least y with an integer x
+    between the lines also has the least x.
     """
     levels = []
     while True:
-        # Going round the other way keeps the step at most half a circle, so the circles shrink quickly.
-        if 2 * step > modulus:
-            step, low, high = modulus - step, modulus - high, modulus - low
-        if step == 0:
-            return None
-        number = divide_up(low, step)
-        if number * step <= high:
+        a, b, m = low
+        c, d, n = high
+        upper = divide_up(b, m)
+        if upper * n <= d:
+            x = 0
             break
-        levels.append((step, modulus, low))
-        step, modulus, low, high = -modulus % step, step, low % step, high % step
-    for step, modulus, low in reversed(levels):
-        number = divide_up(low + modulus * number, step)
-    return number
+        b, d = b - (upper - 1) * m, d - (upper - 1) * n
+        slope = divide_up(a, m)
+        if slope * n <= c:
+            x = first_exit((slope * m - a, b), (c - slope * n, n - d))
+            break
+        if c <= (slope - 1) * n:
+            return None
+        low = (n, n - d, c - (slope - 1) * n)
+        high = (m, m - b, a - (slope - 1) * m)
+        levels.append(low)
+    if x is None:
+        return None
+    for slope, offset, divisor in reversed(levels):
+        x = divide_up(slope * x + offset, divisor)
+    return x
+
+
+def first_exit(fall, rise):
+    """The least x at which one of two ways has been covered, or None; a tuple gives the speed and the way."""
+    times = [divide_up(way, speed) for speed, way in (fall, rise) if speed > 0]
+    return min(times, default=None)

@@ -18,6 +18,22 @@ NO_RULES = NO_INTEGERS + [
     ((2, 5, 1),), {0: 2, 1: 5, 2: 1}, {"p": 2, "q": 5, "c": 1}, (2 * 10 ** 99, 4 * 10 ** 99, 1),
 ]
 
+NO_RATES = [value for value in NO_INTEGERS if value != (1, 2)] + [
+    0, 1, -1, [2, 5], (2,), (2, 5, 1), (0, 2), (2, 4), (3, 3), (1, 0), (0, 0), (-1, 5), (1, -5), (-1, -5), (0, -1),
+    (True, 5), (2, True), (False, 1), (0, True), ("1", "2"), "12", (None, 1), (1, None), ([1], 2), (1, (2,)),
+    {0: 1, 1: 2}, (10 ** 60, 10 ** 61),
+]
+
+NO_RECORDS = NO_INTEGERS + [
+    0, -3, 10 ** 60, ["at least", 3, 1], ("at least",), ("at least", 3), ("at least", 3, 1, 0), ("at most", 3, 1, None),
+    ("at  least", 3, 1), ("At least", 3, 1), ("at least ", 3, 1), ("atleast", 3, 1), ("", 3, 1), ("at", 3, 1),
+    ("least", 3, 1), ("count", 3, 1), (None, 3, 1), (True, 3, 1), (0, 3, 1), (("at least",), 3, 1), (["at most"], 3, 1),
+    ({}, 3, 1), ("at least", True, 1), ("at least", 3, True), ("at most", False, 1), ("at most", 3, False),
+    ("at most", None, 1), ("at most", 3, None), ("at least", "3", 1), ("at least", 3, "1"), ("at least", [3], 1),
+    ("at least", 3, (1,)), ("at least", {}, 1), (3, 1, "at least"), (("at least", 3, 1),), [("at least", 3, 1)],
+    {"at least": (3, 1)}, {0: "at least", 1: 3, 2: 1}, "at least 1 at 3",
+]
+
 EDGE_RULES = [
     (0, 1, 0), (0, 1, 7), (0, 1, -7), (1, 1, 0), (1, 1, -3), (3, 1, 2), (1, 2, 0), (1, 5, -11), (1, 7, 3), (2, 5, 1),
     (5, 2, 0), (7, 3, -100), (4, 9, 8), (12, 5, 31), (8, 13, 0), (6, 7, 6), (1, 12, 5), (11, 12, -5), (13, 12, 4),
@@ -32,6 +48,11 @@ FAR_RULES = [
 def formula(rule, time):
     p, q, c = rule
     return (p * time + c) // q
+
+
+def fits_record(rule, record):
+    word, time, number = record
+    return formula(rule, time) >= number if word == "at least" else formula(rule, time) <= number
 
 
 def common(first, second):

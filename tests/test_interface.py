@@ -23,6 +23,14 @@ FUNCTIONS = {
         "pattern_count": "rule width rank start stop", "next_pattern": "rule width rank start",
         "pattern_distances": "rule width rank",
     },
+    "comparison": {
+        "compare_counts": "first second start stop", "first_lead": "first second start amount",
+        "last_lead": "first second stop amount", "lead_range": "first second start stop",
+        "first_difference": "first second start", "last_difference": "first second stop",
+        "nth_agreement": "first second start number", "all_agreements": "first second",
+    },
+    "records": {"is_record": "value", "count_records": "time count", "event_records": "event time"},
+    "fractions": {"simplest_between": "low high"},
     "evenness": {"uneven": "counts", "is_uneven_certificate": "counts value", "cycle_rule": "pattern"},
 }
 
