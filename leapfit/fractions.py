@@ -19,6 +19,12 @@ def check_rate(value):
         raise InvalidRate(value)
 
 
+def reduce_rate(p, q):
+    """The rate p / q in lowest terms; p >= 0 and q >= 1."""
+    divisor = gcd(p, q)
+    return (p // divisor, q // divisor)
+
+
 def simplest_between(low, high):
     """The rate with the least denominator, then the least numerator, strictly between two rates or None."""
     if low is not None:

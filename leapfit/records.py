@@ -1,6 +1,9 @@
 """Records, which state that the count at a time is at least or at most some number."""
 
+from leapfit.errors import InvalidRecord
 from leapfit.integers import check_integer, is_integer
+
+MOST_RECORDS = 200
 
 
 def is_record(value):
@@ -22,3 +25,24 @@ def event_records(event, time):
     check_integer(event)
     check_integer(time)
     return [("at least", time, event), ("at most", time - 1, event - 1)]
+
+
+def check_records(value):
+    """Raise InvalidRecord unless the value is a list of at most 200 records."""
+    if not isinstance(value, (list, tuple)) or len(value) > MOST_RECORDS:
+        raise InvalidRecord(-1)
+    for index, item in enumerate(value):
+        if not is_record(item):
+            raise InvalidRecord(index)
+
+
+def are_indexes(value, number):
+    """Whether the value is a list of indexes, in ascending order, of a list with this number of items."""
+    if not isinstance(value, (list, tuple)):
+        return False
+    last = -1
+    for index in value:
+        if not is_integer(index) or not last < index < number:
+            return False
+        last = index
+    return True

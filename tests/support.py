@@ -1,7 +1,9 @@
 """What several test files need: rules to try, wrong objects, and the formula of the document."""
 
 import copy
+import inspect
 import random
+from fractions import Fraction
 
 FAR = 10 ** 197 + 12345678901234567890
 
@@ -32,6 +34,18 @@ NO_RECORDS = NO_INTEGERS + [
     ("at most", None, 1), ("at most", 3, None), ("at least", "3", 1), ("at least", 3, "1"), ("at least", [3], 1),
     ("at least", 3, (1,)), ("at least", {}, 1), (3, 1, "at least"), (("at least", 3, 1),), [("at least", 3, 1)],
     {"at least": (3, 1)}, {0: "at least", 1: 3, 2: 1}, "at least 1 at 3",
+]
+
+RECORD = ("at least", 3, 1)
+
+# Tuples (index, object): the object stands in the place of a list of records, and the index is that of InvalidRecord.
+WRONG_LISTS = [
+    (-1, None), (-1, True), (-1, False), (-1, 0), (-1, 10 ** 60), (-1, ""), (-1, "at least"), (-1, {}),
+    (-1, {0: RECORD}), (-1, {"records": [RECORD]}), (-1, [RECORD] * 201), (-1, (RECORD,) * 201), (-1, [None] * 201),
+    (0, RECORD), (0, [None, RECORD]), (199, [RECORD] * 199 + [None]), (0, [[RECORD]]), (0, ([RECORD],)),
+    (1, [RECORD, list(RECORD), None]),
+] + [(2, [RECORD, ("at most", 7, 9), value, RECORD, None]) for value in NO_RECORDS] + [
+    (1, (RECORD, value)) for value in NO_RECORDS
 ]
 
 EDGE_RULES = [
@@ -83,30 +97,122 @@ def same(first, second):
     return repr(first) == repr(second)
 
 
+def random_records(source, number, times, counts):
+    """Records with any times and counts up to these sizes; most lists of many such records conflict."""
+    return [(source.choice(("at least", "at most")), source.randint(-times, times), source.randint(-counts, counts))
+            for _ in range(number)]
+
+
+def fitting_records(source, number, rule, times, slack):
+    """Records that the rule fits, with counts that differ from its counts by at most so much."""
+    records = []
+    for _ in range(number):
+        time, off = source.randint(-times, times), source.randint(0, slack)
+        if source.random() < 0.5:
+            records.append(("at least", time, formula(rule, time) - off))
+        else:
+            records.append(("at most", time, formula(rule, time) + off))
+    return records
+
+
+def sample_lists(seed, most, number=60):
+    """Lists of up to so many records: of one kind, of few times, fitting, conflicting, near and far."""
+    source = random.Random(seed)
+    lists = [[], [("at least", 0, 0)], [("at most", 5, -7)], [("at least", FAR, 3), ("at least", -FAR, 4)]]
+    for _ in range(number):
+        size = source.randint(1, most)
+        times = source.choice((1, 3, 10, 50, FAR))
+        rule = random_rule(source, source.choice((3, 12, 10 ** 60)))
+        lists.append(random_records(source, min(size, source.randint(2, 6)), times, source.choice((1, 4, times))))
+        lists.append(fitting_records(source, size, rule, times, source.choice((0, 1, 5))))
+        broken = fitting_records(source, size, rule, times, 1)
+        broken[source.randrange(size)] = random_records(source, 1, times, times)[0]
+        lists.append(broken)
+        word = source.choice(("at least", "at most"))
+        lists.append([(word, time, count) for _, time, count in broken])
+        # At a steep rule, a record that is only just broken contradicts no other one alone.
+        steep = fitting_records(source, min(size, 12), (5 * rule[1] + 1, rule[1], rule[2]), times, 0)
+        word, time, count = steep[0]
+        lists.append([(word, time, count + (1 if word == "at least" else -1))] + steep[1:])
+    return lists
+
+
+def split(records):
+    """The tuples (time, count) of the "at least" and those of the "at most" records."""
+    return ([(t, n) for word, t, n in records if word == "at least"],
+            [(u, m) for word, u, m in records if word == "at most"])
+
+
+def interval(records):
+    """The ends of the rates by the pairs of [52], or None; a low end of None means that 0 fits."""
+    lows, highs = split(records)
+    if any(t == u and n > m for t, n in lows for u, m in highs):
+        return None
+    low = max((Fraction(n - m - 1, t - u) for t, n in lows for u, m in highs if u < t), default=Fraction(-1))
+    high = min((Fraction(m + 1 - n, u - t) for t, n in lows for u, m in highs if t < u), default=None)
+    if high is not None and (high <= 0 or high <= low):
+        return None
+    return (None if low < 0 else low, high)
+
+
+def has_form(records):
+    """Whether two or three records, in some order, have one of the forms of [54]."""
+    lows, highs = split(records)
+    if (len(lows), len(highs)) == (1, 1):
+        (t, n), (u, m) = lows[0], highs[0]
+        return t <= u and n > m
+    if (len(lows), len(highs)) == (2, 1):
+        ((t1, n1), (t2, n2)), (u, m) = sorted(lows), highs[0]
+        return t1 < u < t2 and (t2 - u) * n1 + (u - t1) * n2 >= (t2 - t1) * (m + 1)
+    if (len(lows), len(highs)) == (1, 2):
+        (t, n), ((u1, m1), (u2, m2)) = lows[0], sorted(highs)
+        return u1 < t < u2 and (u2 - t) * (m1 + 1) + (t - u1) * (m2 + 1) <= (u2 - u1) * n
+    return False
+
+
+def ascending(indexes, number):
+    """Whether this is a list of indexes in ascending order of a list with this number of items."""
+    return (type(indexes) is list and all(type(index) is int and 0 <= index < number for index in indexes)
+            and all(first < second for first, second in zip(indexes, indexes[1:])))
+
+
 def check_errors(test, function, arguments, wrong):
     """Each wrong argument raises its error; the first wrong one of several wins; nothing is changed.
 
-    `arguments` is a dict in the order of the signature, `wrong` a dict of lists of tuples (error, object).
+    `arguments` is a dict in the order of the checks. `wrong` is a dict of lists of tuples: (error, object) if the
+    object is the error's value, or (error, object, index). An argument that raises no error has an empty list there.
     """
     for name in arguments:
         test.assertIn(name, wrong)
-        for error, value in wrong[name]:
-            check_error(test, function, arguments, {name: value}, error, value)
+        for case in wrong[name]:
+            check_error(test, function, arguments, {name: case[1]}, case)
     names = list(arguments)
     for at, first in enumerate(names):
-        error, value = wrong[first][0]
-        for later in names[at + 1:]:
-            for _, other in wrong[later]:
-                check_error(test, function, arguments, {first: value, later: other}, error, value)
+        for case in wrong[first][:1]:
+            for later in names[at + 1:]:
+                for other in wrong[later]:
+                    check_error(test, function, arguments, {first: case[1], later: other[1]}, case)
 
 
-def check_error(test, function, arguments, changes, error, value):
+def check_error(test, function, arguments, changes, case):
     given = {**arguments, **changes}
     before = copy.deepcopy(given)
-    with test.assertRaises(error) as caught:
-        function(*given.values())
-    test.assertIs(type(caught.exception), error)
-    test.assertIs(caught.exception.value, value)
-    with test.assertRaises(error):
+    by_position, by_keyword = call_arguments(function, given)
+    with test.assertRaises(case[0]) as caught:
+        function(*by_position, **by_keyword)
+    test.assertIs(type(caught.exception), case[0])
+    if len(case) == 2:
+        test.assertIs(caught.exception.value, case[1])
+    else:
+        test.assertTrue(same(caught.exception.index, case[2]), case)
+    with test.assertRaises(case[0]):
         function(**given)
     test.assertTrue(same(given, before))
+
+
+def call_arguments(function, given):
+    """The arguments by position, in the order of the signature, and those that can be passed by keyword only."""
+    parameters = inspect.signature(function).parameters.values()
+    only = {item.name for item in parameters if item.kind is item.KEYWORD_ONLY}
+    by_position = [given[item.name] for item in parameters if item.name in given and item.name not in only]
+    return by_position, {name: given[name] for name in given if name in only}

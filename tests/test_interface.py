@@ -31,6 +31,15 @@ FUNCTIONS = {
     },
     "records": {"is_record": "value", "count_records": "time count", "event_records": "event time"},
     "fractions": {"simplest_between": "low high"},
+    "fitting": {"fits": "rule records", "rates": "records", "phases": "records rate"},
+    "conflicts": {"conflict": "records", "is_conflict": "records value", "blame": "records"},
+    "implied": {
+        "opposite": "record", "follows": "records record", "is_answer": "records record value", "core": "records",
+    },
+    "repairs": {
+        "repair": "records rate prices=None", "is_repair": "records rate value prices=None",
+        "least_repair": "records prices=None",
+    },
     "evenness": {"uneven": "counts", "is_uneven_certificate": "counts value", "cycle_rule": "pattern"},
 }
 
@@ -44,10 +53,14 @@ class InterfaceTest(unittest.TestCase):
                     function = getattr(module, name)
                     self.assertEqual(function.__module__, "leapfit." + file)
                     kinds = inspect.signature(function).parameters
-                    self.assertEqual(list(kinds), parameters.split())
+                    self.assertEqual(list(kinds), [word.removesuffix("=None") for word in parameters.split()])
                     for parameter in kinds.values():
-                        self.assertEqual(parameter.kind, inspect.Parameter.POSITIONAL_OR_KEYWORD)
-                        self.assertIs(parameter.default, inspect.Parameter.empty)
+                        self.check_parameter(parameter, f"{parameter.name}=None" in parameters.split())
+
+    def check_parameter(self, parameter, by_keyword):
+        kind = parameter.KEYWORD_ONLY if by_keyword else parameter.POSITIONAL_OR_KEYWORD
+        self.assertEqual(parameter.kind, kind)
+        self.assertIs(parameter.default, None if by_keyword else parameter.empty)
 
 
 if __name__ == "__main__":
