@@ -2,7 +2,7 @@
 
 from leapfit.errors import NoEvents
 from leapfit.floor_sums import count_hits
-from leapfit.integers import check_at_least, check_below, check_integer, check_range, divide_up, first_hit
+from leapfit.integers import check_at_least, check_between, check_integer, check_range, divide_up, first_hit
 from leapfit.rules import check_rule, count, count_sum
 
 
@@ -100,7 +100,7 @@ def check_residue(rule, k, r):
     """Raise the error for the first of the three arguments that is not valid."""
     check_rule(rule)
     check_at_least(k, 1)
-    check_below(r, k)
+    check_between(r, 0, k - 1)
 
 
 def residue_arc(cycle, r):

@@ -4,6 +4,7 @@ An "at least" record (t, n) and an "at most" record (u, m) bound the rates by (n
 and from above if t < u.
 """
 
+from leapfit.errors import NoRule
 from leapfit.fractions import check_rate, reduce_rate, simplest_between
 from leapfit.records import check_records
 from leapfit.rules import check_rule
@@ -91,6 +92,14 @@ def rate_ends(records):
     return (low, high)
 
 
+def fitting_ends(records):
+    """The same, but NoRule is raised if no rule fits."""
+    ends = rate_ends(records)
+    if ends is None:
+        raise NoRule()
+    return ends
+
+
 def phase_ends(records, rate):
     """The greatest lower and the least upper bound of c at a rate, each None if there is none."""
     p, q = rate
@@ -107,10 +116,56 @@ def rate_fits(records, rate):
 
 
 def fitting_rule(records):
-    """A rule of the simplest rate that fits the records; some rule fits them."""
-    low, high = rate_ends(records)
+    """The least rule that fits a list of records of any length; NoRule is raised if no rule fits."""
+    low, high = fitting_ends(records)
     p, q = simplest_between(low, high)
     least, greatest = phase_ends(records, (p, q))
     if least is not None:
         return (p, q, least)
     return (p, q, 0 if greatest is None else greatest)
+
+
+def low_corners(records, ends):
+    """The points (time, count) of the "at least" records that bound c at some rate between the ends, by time.
+
+    The slopes of the upper hull of these points fall from one edge to the next. At a rate between the slopes of two
+    neighbouring edges, the corner where they meet bounds c.
+    """
+    corners = upper_hull([(t, n) for word, t, n in records if word == "at least"])
+    edges = list(zip(corners, corners[1:]))
+    low, high = ends
+    first = 0 if high is None else len([edge for edge in edges if steepness(edge, high) >= 0])
+    last = len([edge for edge in edges if steepness(edge, low_end(ends)) > 0])
+    return corners[first:last + 1]
+
+
+def low_end(ends):
+    """The lower end of the rates, whether or not it fits."""
+    return (0, 1) if ends[0] is None else ends[0]
+
+
+def steepness(edge, rate):
+    """Positive, zero or negative, as the slope of an edge is greater than, equal to or less than the rate."""
+    (t, n), (other_t, other_n) = edge
+    return (other_n - n) * rate[1] - rate[0] * (other_t - t)
+
+
+def upper_hull(points):
+    """The corners, by time, of the lowest line that bends downwards only and has no point above it."""
+    corners = []
+    for point in sorted(points):
+        while corners and hides_last(corners, point):
+            corners.pop()
+        corners.append(point)
+    return corners
+
+
+def hides_last(corners, point):
+    """Whether the last corner is no corner any more beside a point that is not earlier and not below at its time."""
+    t, n = corners[-1]
+    if t == point[0]:
+        return True
+    if len(corners) == 1:
+        return False
+    before, number = corners[-2]
+    return (n - number) * (point[0] - t) <= (point[1] - n) * (t - before)

@@ -20,9 +20,9 @@ def check_at_least(value, least):
         raise InvalidNumber(value)
 
 
-def check_below(value, limit):
-    """Raise InvalidNumber unless the value is an integer from 0 to limit - 1."""
-    if not is_integer(value) or not 0 <= value < limit:
+def check_between(value, least, most):
+    """Raise InvalidNumber unless the value is an integer from least to most."""
+    if not is_integer(value) or not least <= value <= most:
         raise InvalidNumber(value)
 
 

@@ -7,7 +7,7 @@ next.
 """
 
 from leapfit.floor_sums import count_hits
-from leapfit.integers import check_at_least, check_below, check_integer, check_range, first_hit
+from leapfit.integers import check_at_least, check_between, check_integer, check_range, first_hit
 from leapfit.rules import check_rule
 
 
@@ -61,7 +61,7 @@ def pattern_distances(rule, width, rank):
 def pattern_arc(rule, width, rank):
     """The remainders of p * t + c by q at the starts t with this rank, as a tuple (low, high)."""
     total = pattern_total(rule, width)
-    check_below(rank, total)
+    check_between(rank, 0, total - 1)
     p, q, c = rule
     low = nth_point(-p % q, q, total, rank)
     if rank == total - 1:

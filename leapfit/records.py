@@ -36,6 +36,11 @@ def check_records(value):
             raise InvalidRecord(index)
 
 
+def mirror_records(records):
+    """The records that a rule fits exactly if its mirrored rule fits the given ones."""
+    return [("at most" if word == "at least" else "at least", -t, -n) for word, t, n in records]
+
+
 def are_indexes(value, number):
     """Whether the value is a list of indexes, in ascending order, of a list with this number of items."""
     if not isinstance(value, (list, tuple)):

@@ -5,6 +5,8 @@ import inspect
 import random
 from fractions import Fraction
 
+from leapfit.errors import InvalidNumber, InvalidRecord, InvalidRule
+
 FAR = 10 ** 197 + 12345678901234567890
 
 # Objects of every kind that [3] names; none of them is an integer or a rule.
@@ -47,6 +49,11 @@ WRONG_LISTS = [
 ] + [(2, [RECORD, ("at most", 7, 9), value, RECORD, None]) for value in NO_RECORDS] + [
     (1, (RECORD, value)) for value in NO_RECORDS
 ]
+
+# The same as cases of check_errors.
+WRONG_RECORDS = [(InvalidRecord, value, index) for index, value in WRONG_LISTS]
+WRONG_INTEGERS = [(InvalidNumber, value) for value in NO_INTEGERS]
+WRONG_RULES = [(InvalidRule, value) for value in NO_RULES]
 
 EDGE_RULES = [
     (0, 1, 0), (0, 1, 7), (0, 1, -7), (1, 1, 0), (1, 1, -3), (3, 1, 2), (1, 2, 0), (1, 5, -11), (1, 7, 3), (2, 5, 1),
@@ -153,6 +160,57 @@ def interval(records):
     if high is not None and (high <= 0 or high <= low):
         return None
     return (None if low < 0 else low, high)
+
+
+def phases_by_hand(records, rate):
+    """The least and the greatest c of [53]; there are records of both kinds."""
+    p, q = rate
+    lows, highs = split(records)
+    return max(n * q - p * t for t, n in lows), min((m + 1) * q - p * u - 1 for u, m in highs)
+
+
+def phases_of_cycle(records, cycle):
+    """For each p whose rate p / cycle may fit a tuple of p, the least c and the greatest c; the rates have an upper end."""
+    found = []
+    p = 0
+    high = interval(records)[1]
+    while Fraction(p, cycle) < high:
+        found.append((p, *phases_by_hand(records, (p, cycle))))
+        p += 1
+    return found
+
+
+def pairs_of_cycle(records, cycle):
+    """All pairs (p, c) of [61] in their order."""
+    return [(p, c) for p, least, greatest in phases_of_cycle(records, cycle) for c in range(least, greatest + 1)]
+
+
+def rules_of_cycle(records, cycle):
+    """All rules of a cycle that fit, in the order of [61]."""
+    return [(p, cycle, c) for p, c in pairs_of_cycle(records, cycle) if common(p, cycle) == 1]
+
+
+def fitting_lists(seed, most, number=60):
+    """Those of the sample lists that some rule fits."""
+    return [records for records in sample_lists(seed, most, number) if interval(records) is not None]
+
+
+def bounded_lists(seed, number, times=8, counts=6):
+    """Small lists of records that some rule fits, whose rates have an upper end."""
+    source = random.Random(seed)
+    found = []
+    while len(found) < number:
+        records = random_records(source, source.randint(2, 7), times, counts)
+        ends = interval(records)
+        if ends is not None and ends[1] is not None:
+            found.append(records)
+    return found
+
+
+def against(record):
+    """The opposite of a record, by the words of [55]."""
+    word, t, n = record
+    return ("at most", t, n - 1) if word == "at least" else ("at least", t, n + 1)
 
 
 def has_form(records):

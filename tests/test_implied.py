@@ -5,19 +5,12 @@ import unittest
 from leapfit.conflicts import is_conflict
 from leapfit.errors import InvalidRecord, NoRule
 from leapfit.implied import core, follows, is_answer, opposite
-from tests.support import (FAR, FAR_RULES, NO_INTEGERS, NO_RECORDS, WRONG_LISTS, ascending, check_errors, fits_record,
-                           fitting_records, formula, interval, looks_like_a_rule, random_records, same, sample_lists,
-                           small_rules)
+from tests.support import (FAR, FAR_RULES, NO_INTEGERS, NO_RECORDS, WRONG_RECORDS, against, ascending, check_errors,
+                           fits_record, fitting_records, formula, interval, looks_like_a_rule, random_records, same,
+                           sample_lists, small_rules)
 
 RECORDS = [("at least", 0, 0), ("at least", 10, 6)]
 CONFLICTING = [("at least", 0, 3), ("at most", 4, 1)]
-WRONG_RECORDS = [(InvalidRecord, value, index) for index, value in WRONG_LISTS]
-
-
-def against(record):
-    """The opposite of a record, by the words of [55]."""
-    word, t, n = record
-    return ("at most", t, n - 1) if word == "at least" else ("at least", t, n + 1)
 
 
 def questions(seed, most, number=25):

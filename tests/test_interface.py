@@ -40,6 +40,15 @@ FUNCTIONS = {
         "repair": "records rate prices=None", "is_repair": "records rate value prices=None",
         "least_repair": "records prices=None",
     },
+    "pins": {"pins": "rule most", "are_pins": "rule most value"},
+    "cycles": {
+        "least_cycle": "records", "least_rule": "records", "count_pairs": "records cycle",
+        "count_rules": "records cycle", "rule_at": "records cycle index", "index_of": "records rule",
+    },
+    "forecasts": {
+        "count_range": "records time", "event_range": "records event", "witness": "records time count",
+        "certify_range": "records time", "is_range_certificate": "records time value",
+    },
     "evenness": {"uneven": "counts", "is_uneven_certificate": "counts value", "cycle_rule": "pattern"},
 }
 

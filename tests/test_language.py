@@ -14,8 +14,7 @@ BUILTINS = set("""len range enumerate zip min max sum abs sorted reversed int st
 
 METHODS = set("""append clear copy count endswith extend find get index insert isalnum isalpha isdigit islower isspace
     isupper items join keys ljust lower lstrip partition pop remove replace reverse rfind rjust rpartition rsplit
-    rstrip setdefault split splitlines startswith strip update upper values zfill bit_length sort add discard
-    __init__""".split())
+    rstrip setdefault split splitlines startswith strip update upper values zfill bit_length __init__""".split())
 
 WORDS = set("""type typing typing_extensions enum Enum IntEnum StrEnum Flag IntFlag Generic Protocol ABC ABCMeta
     namedtuple NamedTuple TypedDict TYPE_CHECKING abstractmethod""".split())
@@ -33,6 +32,11 @@ def files():
 
 def tree_of(path):
     return ast.parse(path.read_text(encoding="utf-8"))
+
+
+def own_methods():
+    return {part.name for path in files() for node in tree_of(path).body if isinstance(node, ast.ClassDef)
+            for part in node.body if isinstance(part, ast.FunctionDef)}
 
 
 def bound_names(tree):
@@ -103,7 +107,7 @@ class LanguageTest(unittest.TestCase):
         for path in files():
             tree = tree_of(path)
             for name in bound_names(tree):
-                if name != "__init__":
+                if name not in ("__init__", "__len__"):
                     self.assertTrue(re.fullmatch(r"[A-Za-z][A-Za-z0-9_]*", name), (path.name, name))
                     self.assertFalse(hasattr(builtins, name) or name in NAMES, (path.name, name))
 
@@ -113,7 +117,18 @@ class LanguageTest(unittest.TestCase):
                 if isinstance(node, ast.Name) and hasattr(builtins, node.id):
                     self.assertIn(node.id, BUILTINS, (path.name, node.lineno))
                 if isinstance(node, ast.Call) and isinstance(node.func, ast.Attribute):
-                    self.assertIn(node.func.attr, METHODS, (path.name, node.lineno))
+                    self.assertIn(node.func.attr, METHODS | own_methods(), (path.name, node.lineno))
+
+    def test_methods_and_attributes_have_different_names(self):
+        attributes = {node.attr for path in files() for node in ast.walk(tree_of(path))
+                      if isinstance(node, ast.Attribute) and isinstance(node.ctx, ast.Store)}
+        self.assertEqual(attributes & own_methods(), set())
+        for path in files():
+            called = [node.func for node in ast.walk(tree_of(path)) if isinstance(node, ast.Call)]
+            for node in ast.walk(tree_of(path)):
+                if isinstance(node, ast.Attribute) and isinstance(node.ctx, ast.Load) and node.attr not in attributes:
+                    lines = [func.lineno for func in called if isinstance(func, ast.Attribute) and func.attr == node.attr]
+                    self.assertIn(node.lineno, lines, (path.name, node.attr))
 
     def test_each_name_is_bound_once(self):
         for path in files():
