@@ -73,6 +73,13 @@ def tighter_pairs(pairs, lows, highs):
     return (lower, upper)
 
 
+def pairs_with(pairs, records, record):
+    """The tightest pairs of some records, whose pairs are known, and a further one, which is given the index 0."""
+    lows, highs = split_records(records)
+    new_lows, new_highs = split_records([record])
+    return tighter_pairs(tighter_pairs(pairs, new_lows, highs), lows, new_highs)
+
+
 def leave_no_rate(pairs):
     """Whether no rate >= 0 is between the bounds of such a tuple of pairs."""
     lower, upper = pairs

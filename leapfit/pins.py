@@ -1,6 +1,6 @@
 """Pins: at most three records that single out one rule among all rules with cycles up to a bound."""
 
-from leapfit.fitting import fits_record, phase_ends, rate_ends
+from leapfit.fitting import phase_ends, rate_ends
 from leapfit.fractions import simplest_between
 from leapfit.integers import check_between, first_hit
 from leapfit.records import is_record
@@ -31,11 +31,12 @@ def are_pins(rule, most, value):
     check_pinned(rule, most)
     if not isinstance(value, (list, tuple)) or len(value) > MOST_PINS:
         return False
-    if not all([is_record(item) and fits_record(rule, item) for item in value]):
+    if not all([is_record(item) for item in value]):
         return False
     p, q, c = rule
     if phase_ends(value, (p, q)) != (c, c):
         return False
+    # The rule fits, and no other one of its rate. All rates between the ends fit.
     low, high = rate_ends(value)
     return is_first_rate(low, (p, q), most) and simplest_between((p, q), high)[1] > most
 

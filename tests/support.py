@@ -5,7 +5,7 @@ import inspect
 import random
 from fractions import Fraction
 
-from leapfit.errors import InvalidNumber, InvalidRecord, InvalidRule
+from leapfit.errors import InvalidNumber, InvalidRecord, InvalidRule, NoRule
 
 FAR = 10 ** 197 + 12345678901234567890
 
@@ -54,6 +54,16 @@ WRONG_LISTS = [
 WRONG_RECORDS = [(InvalidRecord, value, index) for index, value in WRONG_LISTS]
 WRONG_INTEGERS = [(InvalidNumber, value) for value in NO_INTEGERS]
 WRONG_RULES = [(InvalidRule, value) for value in NO_RULES]
+
+# The records of the examples in the document, and records that conflict.
+RECORDS = [("at least", 0, 0), ("at most", 0, 0), ("at least", 10, 3), ("at most", 10, 3)]
+CONFLICTING = [("at least", 0, 3), ("at most", 4, 1)]
+
+NO_WITNESSES = [value for value in NO_RECORDS if value not in ("at", "least", "rule")] + [
+    "", "abcdefghijklm", "a" * 13, "a" * 200, "Ann", "ANN", "anN", "ann ", " ann", "an n", "ann1", "1", "ann\n", "\n", "a_b",
+    "a-b", "\u00e4nn", "ann\u00e9", "\u03b1", "\u0131", "\u00aa", "\uff41", "\u212a", "a\u0301", "ab\x00", b"ann", ["ann"],
+    ("ann",), {"ann": 1}, {"a", "n"},
+]
 
 EDGE_RULES = [
     (0, 1, 0), (0, 1, 7), (0, 1, -7), (1, 1, 0), (1, 1, -3), (3, 1, 2), (1, 2, 0), (1, 5, -11), (1, 7, 3), (2, 5, 1),
@@ -207,6 +217,26 @@ def bounded_lists(seed, number, times=8, counts=6):
     return found
 
 
+def fits_some(records):
+    return interval(records) is not None
+
+
+def small_lists(seed, number, most=7):
+    """Small lists that some rule fits; with and without an upper end of the rates, of one kind and of both."""
+    source = random.Random(seed)
+    found = [[], [("at least", 0, 4)], [("at most", -3, 2)], [("at least", 5, 2), ("at most", 5, 2)],
+             [("at least", 5, 2), ("at most", 5, 4)], [("at least", 7, 2), ("at most", -3, 2)]]
+    while len(found) < number:
+        if source.random() < 0.5:
+            records = random_records(source, source.randint(1, most), 8, 6)
+        else:
+            rule = (source.randint(0, 9), source.choice((1, 5, 7, 11)), source.randint(-9, 9))
+            records = fitting_records(source, source.randint(1, most), rule, 12, source.choice((0, 0, 1)))
+        if fits_some(records):
+            found.append(records)
+    return found
+
+
 def against(record):
     """The opposite of a record, by the words of [55]."""
     word, t, n = record
@@ -274,3 +304,18 @@ def call_arguments(function, given):
     only = {item.name for item in parameters if item.kind is item.KEYWORD_ONLY}
     by_position = [given[item.name] for item in parameters if item.name in given and item.name not in only]
     return by_position, {name: given[name] for name in given if name in only}
+
+
+def check_forecast_errors(test, function, others, free=()):
+    """InvalidRecord, InvalidNumber for the first argument that is no integer, then NoRule."""
+    wrong = {"records": WRONG_RECORDS, **{name: [] if name in free else WRONG_INTEGERS for name in others}}
+    for records in (RECORDS, CONFLICTING):
+        check_errors(test, function, {"records": records, **others}, wrong)
+    for records in (CONFLICTING, tuple(CONFLICTING * 100), [("at least", 4, 3), ("at most", 4, 2)]):
+        before = list(records)
+        with test.assertRaises(NoRule) as caught:
+            function(records, *others.values())
+        test.assertIs(type(caught.exception), NoRule)
+        test.assertEqual(list(records), before)
+    with test.assertRaises(InvalidRecord):
+        function([*CONFLICTING, None], *others.values())

@@ -4,13 +4,11 @@ import unittest
 from leapfit.cycles import count_pairs, count_rules, index_of, least_cycle, least_rule, rule_at
 from leapfit.errors import IndexOutOfRange, InvalidNumber, InvalidRecord, InvalidRule, NoRule, NotFitting, Unbounded
 from leapfit.fitting import fits, rates
-from tests.support import (FAR, NO_RULES, WRONG_INTEGERS, WRONG_RECORDS, WRONG_RULES, against, bounded_lists,
-                           check_errors, common, fits_record, fitting_lists, fitting_records, interval,
+from tests.support import (CONFLICTING, FAR, NO_RULES, RECORDS, WRONG_INTEGERS, WRONG_RECORDS, WRONG_RULES, against,
+                           bounded_lists, check_errors, common, fits_record, fitting_lists, fitting_records, interval,
                            looks_like_a_rule, pairs_of_cycle, phases_of_cycle, random_records, random_rule,
                            rules_of_cycle, split)
 
-RECORDS = [("at least", 0, 0), ("at most", 0, 0), ("at least", 10, 3), ("at most", 10, 3)]
-CONFLICTING = [("at least", 0, 3), ("at most", 4, 1)]
 UNBOUNDED = [[], [("at least", 3, 1)], [("at most", 3, 1)], [("at least", 4, 1), ("at most", 4, 5)],
              [("at least", 9, 2), ("at most", -5, 2), ("at most", 9, 3)]]
 FAR_CYCLES = [1, 2, 6, 9699690, 10 ** 8, 10 ** 8 - 1, 99999989, 73513440, 9699690 * 10, 2 ** 26, 3 ** 16, 9973 ** 2]

@@ -2,36 +2,14 @@ import copy
 import random
 import unittest
 
-from leapfit.errors import InvalidNumber, InvalidRecord, NoRule, NotPossible
+from leapfit.errors import InvalidNumber, NoRule, NotPossible
 from leapfit.forecasts import certify_range, count_range, event_range, is_range_certificate, witness
 from leapfit.records import event_records
-from tests.support import (FAR, FAR_RULES, NO_INTEGERS, WRONG_INTEGERS, WRONG_RECORDS, ascending, check_errors,
-                           fits_record, fitting_lists, fitting_records, formula, interval, looks_like_a_rule,
-                           random_records, same)
+from tests.support import (CONFLICTING, FAR, FAR_RULES, NO_INTEGERS, RECORDS, ascending, check_forecast_errors,
+                           fits_record, fits_some, fitting_lists, fitting_records, formula, interval,
+                           looks_like_a_rule, same, small_lists)
 
-RECORDS = [("at least", 0, 0), ("at most", 0, 0), ("at least", 10, 3), ("at most", 10, 3)]
-CONFLICTING = [("at least", 0, 3), ("at most", 4, 1)]
 CERTIFICATE = ((5, [1, 2], (2, 9, 8)), (7, [0, 3], (7, 18, 1)))
-
-
-def fits_some(records):
-    return interval(records) is not None
-
-
-def small_lists(seed, number, most=7):
-    """Small lists that some rule fits; with and without an upper end of the rates, of one kind and of both."""
-    source = random.Random(seed)
-    found = [[], [("at least", 0, 4)], [("at most", -3, 2)], [("at least", 5, 2), ("at most", 5, 2)],
-             [("at least", 5, 2), ("at most", 5, 4)], [("at least", 7, 2), ("at most", -3, 2)]]
-    while len(found) < number:
-        if source.random() < 0.5:
-            records = random_records(source, source.randint(1, most), 8, 6)
-        else:
-            rule = (source.randint(0, 9), source.choice((1, 5, 7, 11)), source.randint(-9, 9))
-            records = fitting_records(source, source.randint(1, most), rule, 12, source.choice((0, 0, 1)))
-        if fits_some(records):
-            found.append(records)
-    return found
 
 
 def bounds_exist(records, time):
@@ -384,6 +362,13 @@ class CertificateTest(unittest.TestCase):
         self.assertIs(is_range_certificate([("at least", 0, 4)], -1, ((4, [0], (0, 1, 4)), None)), False)
         self.assertIs(is_range_certificate([("at least", 0, 4)], 0, ((4, [0], (0, 1, 4)), (4, [0], (0, 1, 4)))), False)
 
+    def test_true_is_no_count(self):
+        for number, other in ((1, True), (0, False)):
+            records = [("at least", 3, number), ("at most", 3, number)]
+            parts = [((low, [0], (0, 1, number)), (high, [1], (0, 1, number)))
+                     for low, high in ((number, number), (other, number), (number, other))]
+            self.assertEqual([is_range_certificate(records, 3, part) for part in parts], [True, False, False])
+
     def test_of_another_time_or_list(self):
         seen = {True: 0, False: 0}
         for records in small_lists(183, 60):
@@ -411,21 +396,6 @@ class CertificateTest(unittest.TestCase):
         for value in [CERTIFICATE, (None, None), 5, *NO_INTEGERS]:
             with self.assertRaises(NoRule):
                 is_range_certificate(CONFLICTING, 20, value)
-
-
-def check_forecast_errors(test, function, others, free=()):
-    """InvalidRecord, InvalidNumber for the first argument that is no integer, then NoRule."""
-    wrong = {"records": WRONG_RECORDS, **{name: [] if name in free else WRONG_INTEGERS for name in others}}
-    for records in (RECORDS, CONFLICTING):
-        check_errors(test, function, {"records": records, **others}, wrong)
-    for records in (CONFLICTING, tuple(CONFLICTING * 100), [("at least", 4, 3), ("at most", 4, 2)]):
-        before = list(records)
-        with test.assertRaises(NoRule) as caught:
-            function(records, *others.values())
-        test.assertIs(type(caught.exception), NoRule)
-        test.assertEqual(list(records), before)
-    with test.assertRaises(InvalidRecord):
-        function([*CONFLICTING, None], *others.values())
 
 
 if __name__ == "__main__":
